@@ -1,0 +1,1 @@
+"""Outlivers: even bets between those who may die first."""
