@@ -2,6 +2,7 @@
 
 import contextlib
 import copy
+import random
 import signal
 
 
@@ -26,10 +27,15 @@ def soon(seconds=20):
 
 
 def is_plain(thing):
-    """True where it is made of whole numbers (no True, no False), None, lists and tuples alone."""
+    """True where it is made of whole numbers (no True, no False), texts, None, lists and tuples alone."""
     if type(thing) in (list, tuple):
         return all(is_plain(one) for one in thing)
-    return thing is None or type(thing) is int
+    return thing is None or type(thing) in (int, str)
+
+
+def is_truth(thing):
+    """True where it is True or False, and no number in place of them."""
+    return type(thing) is bool
 
 
 def lists_in(thing):
@@ -48,12 +54,12 @@ def spoil(thing):
         one.append(-77)
 
 
-def asked(case, function, *things):
+def asked(case, function, *things, kind=is_plain):
     """What a function tells, with all that point [2] says of it looked at on the way."""
     handed = copy.deepcopy(things)
     told = function(*handed)
     first = copy.deepcopy(told)
-    case.assertTrue(is_plain(told), told)
+    case.assertTrue(kind(told), "what is told is of another kind")
     case.assertEqual(handed, things, "what was handed in was changed")
 
     theirs = {id(one) for one in lists_in(handed)}
@@ -70,3 +76,25 @@ def asked(case, function, *things):
     case.assertEqual(again, first, "changing what was handed in changed what was told")
     case.assertEqual(function(*copy.deepcopy(things)), first, "something handed in was kept")
     return first
+
+
+def answered(case, function, *things):
+    """The True or False that a function tells, looked at in the same way."""
+    return asked(case, function, *things, kind=is_truth)
+
+
+def bet_cases(seed, most):
+    """Tickets of no members up to twelve and a table of numbers beside them, noughts at each one's own place."""
+    chance = random.Random(seed)
+    for size in range(13):
+        for reach in (0, 1, 3, most, 10 ** 200):
+            tickets = [chance.choice((1, 2, 6, 12, 999, 1000, chance.randint(1, 1000))) for place in range(size)]
+            table = [[chance.randint(0, reach) for place in range(size)] for row in range(size)]
+            for place in range(size):
+                table[place][place] = 0
+            yield tickets, table
+
+
+def evened(table):
+    """The table with what stands above its own places set below them too."""
+    return [[table[min(i, j)][max(i, j)] for j in range(len(table))] for i in range(len(table))]

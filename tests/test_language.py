@@ -36,6 +36,8 @@ FORBIDDEN = {
     ast.AsyncFunctionDef: "L6", ast.AsyncFor: "L6", ast.AsyncWith: "L6", ast.Await: "L6", ast.TryStar: "L6",
     ast.Div: "L7", ast.GeneratorExp: "L7", ast.NamedExpr: "L7", ast.MatMult: "L7", ast.Import: "L16",
 }
+WALKED = set("zip enumerate reversed range items keys values".split())
+CHANGES = set("append clear extend insert pop remove reverse setdefault update sort".split())
 PLAIN_TOP = (ast.FunctionDef, ast.ClassDef, ast.ImportFrom, ast.Assign, ast.AnnAssign)
 ESCAPES = re.compile(r"(?<!\\)(?:\\\\)*\\[^n\\'\"tx\n]")
 
@@ -160,6 +162,68 @@ def node_fault(node):
     return FORBIDDEN.get(type(node))
 
 
+def called(node):
+    """The name by which something is called, or None."""
+    if not isinstance(node, ast.Call):
+        return None
+    return getattr(node.func, "id", None) or getattr(node.func, "attr", None)
+
+
+def walked_things(node):
+    """What a loop or a comprehension walks."""
+    if isinstance(node, ast.For):
+        return [node.iter]
+    return [one.iter for one in getattr(node, "generators", [])]
+
+
+def walked_names(thing):
+    """The names of what is walked, itself or through enumerate, zip, reversed, items and their like."""
+    if isinstance(thing, ast.Name):
+        return {thing.id}
+    if called(thing) not in WALKED - {"range"}:
+        return set()
+    inner = thing.args if isinstance(thing.func, ast.Name) else [thing.func.value]
+    return {name for one in inner for name in walked_names(one)}
+
+
+def changed_name(node):
+    """The name of the list or dict that one node changes, or None."""
+    thing = None
+    if called(node) in CHANGES and isinstance(node.func, ast.Attribute):
+        thing = node.func.value
+    if isinstance(node, ast.Subscript) and not isinstance(node.ctx, ast.Load):
+        thing = node.value
+    return thing.id if isinstance(thing, ast.Name) else None
+
+
+def walk_fault(node):
+    """What is walked in another way than it may be, or kept in place of being walked."""
+    if isinstance(node, (ast.Assign, ast.Return)) and called(node.value) in WALKED:
+        return "L23"
+    things = walked_things(node)
+    if any(isinstance(one, (ast.Set, ast.SetComp)) or called(one) == "set" for one in things):
+        return "L24"
+    names = {name for thing in things for name in walked_names(thing)}
+    inner = [one for row in getattr(node, "body", []) for one in ast.walk(row)] if isinstance(node, ast.For) else []
+    return "L23" if any(changed_name(one) in names for one in inner) else None
+
+
+def power_fault(node):
+    if not (isinstance(node, ast.BinOp) and isinstance(node.op, ast.Pow)):
+        return None
+    written = isinstance(node.right, ast.Constant) and type(node.right.value) is int
+    return None if written and 0 <= node.right.value <= 64 else "L27"
+
+
+def clash_faults(tree):
+    """Names within defs that are called like an import or a class of the file."""
+    rows = [node for node in tree.body if isinstance(node, (ast.ImportFrom, ast.ClassDef))]
+    tops = {name for node in rows for name in names_bound(node)}
+    defs = [node for node in ast.walk(tree) if isinstance(node, (ast.FunctionDef, ast.Lambda))]
+    inner = [one for node in defs for one in ast.walk(node) if one is not node]
+    return [("L15", getattr(one, "lineno", 0)) for one in inner if set(names_bound(one)) & tops]
+
+
 def import_fault(node, package):
     if node.module == "__future__":
         return None
@@ -198,9 +262,10 @@ def top_names(node):
 def faults(text, package, methods=()):
     """Pairs (rule, row) of a file, package telling what each module defines, methods those of its own classes."""
     tree = ast.parse(text)
-    found = text_faults(text) + top_faults(tree, package)
+    found = text_faults(text) + top_faults(tree, package) + clash_faults(tree)
     for node in ast.walk(tree):
-        rules = [node_fault(node)] + [name_fault(name) for name in names_bound(node)]
+        rules = [node_fault(node), walk_fault(node), power_fault(node)]
+        rules.extend(name_fault(name) for name in names_bound(node))
         if isinstance(node, ast.Call) and isinstance(node.func, ast.Attribute):
             known = node.func.attr in PYTHON_METHODS or node.func.attr in methods
             rules.append(None if known else "L25")
@@ -292,13 +357,24 @@ WRONG = (
     ("L15", "LIMIT = 1\nLIMIT = 2"),
     ("L15", "def told(hash):\n    return hash"),
     ("L15", "def told():\n    class Box:\n        pass\n    return Box()"),
+    ("L15", "from outlivers.errors import Dead\ndef told(Dead):\n    return Dead"),
+    ("L15", "from outlivers.errors import Dead\ndef told(a):\n    Dead = a\n    return Dead"),
+    ("L15", "class Box:\n    pass\ndef told(a):\n    return [Box for Box in a]"),
     ("L16", "import outlivers.errors"),
     ("L16", "from outlivers.errors import Nobody"),
     ("L17", "# what type it is"),
     ("L17", "def told(id):\n    return 1"),
     ("L19", "def told(a):\n    try:\n        return a[0]\n    except Exception:\n        return 1"),
     ("L20", "def told(a, b):\n    return a is b"),
+    ("L23", "def told(a):\n    return zip(a, a)"),
+    ("L23", "def told(a):\n    rows = a.items()\n    return len(rows)"),
+    ("L23", "def told(a):\n    for k in a:\n        a.append(k)"),
+    ("L23", "def told(a):\n    for k, b in enumerate(a):\n        a[k] = b + 1"),
+    ("L23", "def told(a):\n    for k, b in a.items():\n        if k:\n            a[k] += 1"),
+    ("L24", "def told(a):\n    return [k for k in set(a)]"),
+    ("L24", "def told(a, b):\n    for k in {a, b}:\n        return k"),
     ("L25", "def told(a):\n    return a.bit_count()"),
+    ("L27", "def told(a):\n    return 2 ** a"),
     ("L27", "PART = 'a % of it'"),
     ("L27", "SIGN = '\\u0041'"),
 )
@@ -321,6 +397,12 @@ class TestCheck(unittest.TestCase):
 
     def test_what_is_right_is_let_be(self):
         self.assertEqual(faults(RIGHT, self.package), [])
+
+    def test_what_is_changed_beside_a_walk_is_let_be(self):
+        for walked in ("list(a)", "range(len(a))", "enumerate(list(a))", "b", "b[a]"):
+            text = f"def told(a, b):\n    for k in {walked}:\n        a[k] = 1\n    return sorted(set(a))\n"
+            with self.subTest(walked):
+                self.assertEqual(faults(text, self.package), [])
 
     def test_the_bounds_themselves_are_let_be(self):
         longest = "LONG = '" + "a" * 111 + "'"

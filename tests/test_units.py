@@ -1,11 +1,10 @@
 """Points [5], [6] and [14]: outlivers.units."""
 
 import math
-import random
 import unittest
 
 from outlivers.units import bets_of, divisor, laid, unit, unit_weight
-from tests.helper import asked, soon
+from tests.helper import asked, bet_cases, evened, soon
 
 GREAT = 10 ** 5000
 
@@ -38,23 +37,6 @@ def both_ways(pairs):
     for a, b, shared in pairs:
         yield a, b, shared
         yield b, a, shared
-
-
-def cases(seed, most):
-    """Tickets of no members up to twelve and a table of numbers beside them, noughts at each one's own place."""
-    chance = random.Random(seed)
-    for size in range(13):
-        for reach in (0, 1, 3, most, 10 ** 200):
-            tickets = [chance.choice((1, 2, 6, 12, 999, 1000, chance.randint(1, 1000))) for place in range(size)]
-            table = [[chance.randint(0, reach) for place in range(size)] for row in range(size)]
-            for place in range(size):
-                table[place][place] = 0
-            yield tickets, table
-
-
-def evened(table):
-    """The table with what stands above its own places set below them too."""
-    return [[table[min(i, j)][max(i, j)] for j in range(len(table))] for i in range(len(table))]
 
 
 class TestDivisor(unittest.TestCase):
@@ -148,7 +130,7 @@ class TestLaid(unittest.TestCase):
         self.assertTrue(told == [999 * GREAT, 1000 * GREAT + 1000])
 
     def test_up_to_twelve_members(self):
-        for tickets, table in cases(6, 1000000):
+        for tickets, table in bet_cases(6, 1000000):
             for bets in (table, evened(table)):
                 with self.subTest(tickets=tickets), soon():
                     self.assertEqual(asked(self, laid, bets, tickets), self.by_parts(bets, tickets))
@@ -197,7 +179,7 @@ class TestBetsOf(unittest.TestCase):
         self.assertTrue(told == [[0, GREAT // 24], [GREAT, 0]])
 
     def test_up_to_twelve_members(self):
-        for tickets, table in cases(14, 10 ** 7):
+        for tickets, table in bet_cases(14, 10 ** 7):
             for stakes in (table, evened(table)):
                 with self.subTest(tickets=tickets), soon():
                     self.holds(stakes, tickets, asked(self, bets_of, stakes, tickets))
@@ -215,7 +197,7 @@ class TestBetsOf(unittest.TestCase):
                     self.assertGreater((many + 1) * twice, stakes[i][j])
 
     def test_alike_stakes_make_an_even_table(self):
-        for tickets, table in cases(15, 10 ** 7):
+        for tickets, table in bet_cases(15, 10 ** 7):
             bets = bets_of(evened(table), tickets)
             self.assertEqual(bets, evened(bets))
 
