@@ -98,3 +98,36 @@ def bet_cases(seed, most):
 def evened(table):
     """The table with what stands above its own places set below them too."""
     return [[table[min(i, j)][max(i, j)] for j in range(len(table))] for i in range(len(table))]
+
+
+def drawn_ties(chance, size, share):
+    """Ties of members, some told twice or the other way round, in no order."""
+    ties = []
+    for one in range(size):
+        for other in range(one):
+            if chance.random() < share:
+                ties.extend(chance.choice(([(one, other)], [(other, one)], [(one, other), (other, one), (one, other)])))
+    chance.shuffle(ties)
+    return ties
+
+
+def drawn_weights(chance, size, most):
+    """Weights of members, some of them nought, some far greater than others."""
+    return [chance.choice((0, most, chance.randint(0, most), chance.randint(0, most // 3))) for member in range(size)]
+
+
+def tie_cases(seed, sizes, mosts, rounds=1):
+    """Weights and ties, None and drawn ones."""
+    chance = random.Random(seed)
+    for size in sizes:
+        for most in mosts:
+            for share in (None, 0, 0.15, 0.3, 0.6, 1) * rounds:
+                ties = None if share is None else drawn_ties(chance, size, share)
+                yield drawn_weights(chance, size, most), ties
+
+
+def are_tied(ties, one, other):
+    """Whether two members are tied, by the words of point [9]."""
+    if ties is None:
+        return one != other
+    return (one, other) in ties or (other, one) in ties
