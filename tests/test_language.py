@@ -21,6 +21,8 @@ PYTHON_METHODS = set(
     "casefold center expandtabs removeprefix removesuffix rindex isascii isdecimal isnumeric istitle isidentifier "
     "isprintable encode decode hex fromhex to_bytes from_bytes translate maketrans sort add discard __init__".split()
 )
+PYTHON_ATTRIBUTES = {name for kind in (str, int, list, tuple, dict, set, bytes) for name in dir(kind)} | {"args"}
+FREE_VALUES = set("count index title find get join lower upper split strip copy add".split())
 DUNDERS = set("__init__ __eq__ __repr__ __str__ __len__".split())
 UNUSED_NAMES = set(
     "register mro elements open input version_info with_traceback add_note format format_map attrgetter breakpoint "
@@ -284,6 +286,30 @@ def methods_of(text):
     return {row.name for one in classes for row in one.body if isinstance(row, ast.FunctionDef)}
 
 
+def values_of(text):
+    """The names of the values that are given to objects."""
+    nodes = [node for node in ast.walk(ast.parse(text)) if isinstance(node, ast.Attribute)]
+    return {node.attr for node in nodes if isinstance(node.ctx, ast.Store)}
+
+
+def asked_of(text):
+    """The names of the values that are asked of things."""
+    nodes = list(ast.walk(ast.parse(text)))
+    methods = {id(node.func) for node in nodes if isinstance(node, ast.Call)}
+    return {node.attr for node in nodes if isinstance(node, ast.Attribute) and id(node) not in methods}
+
+
+def own_faults(texts):
+    """Faults in how the methods and values of all classes of the package are called, pairs (rule, name)."""
+    methods = {name for text in texts for name in methods_of(text)}
+    values = {name for text in texts for name in values_of(text)}
+    found = [("L18", name) for name in methods & values]
+    found += [("L18", name) for text in texts for name in asked_of(text) - values]
+    found += [("L26", name) for name in methods & PYTHON_ATTRIBUTES - PYTHON_METHODS]
+    found += [("L26", name) for name in values & PYTHON_ATTRIBUTES - FREE_VALUES]
+    return sorted(set(found))
+
+
 def drawn(text):
     return {node.module for node in ast.parse(text).body if isinstance(node, ast.ImportFrom)}
 
@@ -314,6 +340,9 @@ class TestPackage(unittest.TestCase):
         for name, text in texts.items():
             with self.subTest(name):
                 self.assertEqual(faults(text, package, methods), [])
+
+    def test_methods_and_values_are_called_as_they_may(self):
+        self.assertEqual(own_faults(sources().values()), [])
 
     def test_no_two_files_draw_from_one_another(self):
         left = {name: drawn(text) & set(sources()) for name, text in sources().items()}
@@ -394,6 +423,18 @@ class TestCheck(unittest.TestCase):
         for rule, text in WRONG:
             with self.subTest(rule=rule, text=text[:60]):
                 self.assertIn(rule, [found for found, row in faults(text, self.package)])
+
+    def test_wrong_names_of_methods_and_values_are_found(self):
+        box = "class Box:\n    def __init__(self):\n        self.{0} = 1\n    def {1}(self):\n        return self.{2}\n"
+        for value, method, asked, looked_for in (
+            ("many", "told", "many", []), ("count", "join", "count", []), ("many", "many", "many", [("L18", "many")]),
+            ("many", "told", "much", [("L18", "much")]), ("items", "told", "items", [("L26", "items")]),
+            ("real", "told", "real", [("L26", "real")]), ("many", "union", "many", [("L26", "union")]),
+        ):
+            with self.subTest(value=value, method=method, asked=asked):
+                self.assertEqual(own_faults([box.format(value, method, asked)]), looked_for)
+        clash = ["class Box:\n    def told(self):\n        return 1\n", "def told(box):\n    box.told = 1\n"]
+        self.assertEqual(own_faults(clash), [("L18", "told")])
 
     def test_what_is_right_is_let_be(self):
         self.assertEqual(faults(RIGHT, self.package), [])
