@@ -6,8 +6,15 @@ import math
 import random
 import re
 import signal
+import unittest
 
+from outlivers import errors
+from outlivers.pages import page
+from outlivers.society import Society
+from outlivers.stakes import shut_of
 from outlivers.stand import done, first_stand, told_bets
+from outlivers.ties import shuts
+from outlivers.weights import overweight
 
 
 class TooSlow(Exception):
@@ -462,3 +469,107 @@ def drawn_stands(seed, many, steps):
                 plain.do(row, told_bets(stand))
                 stand = done(stand, row)
         yield stand, plain
+
+
+def told_or_refused(function, *things):
+    """What a function tells, or the name of the refusal."""
+    try:
+        return function(*things)
+    except errors.OutError as refusal:
+        return type(refusal).__name__
+
+
+def plain_seen(society):
+    """All that can be asked of a society, but what hangs on the told bets, as Plain tells it."""
+    told = {}
+    for word in "names living is_tied table blanks total bets strokes".split():
+        told[word] = getattr(society, word)()
+    for word in "age coins free tickets ties".split():
+        told[word] = [getattr(society, word)(name) for name in society.names()]
+    return told
+
+
+def asked_tickets(society):
+    """Tickets worth asking for: each one's first and last one, and those beyond."""
+    ends, at = [-1, 0], 0
+    for many in [society.tickets(name) for name in society.living()] + [society.blanks()]:
+        at += many
+        ends.extend((at - 1, at))
+    return ends
+
+
+def all_asked(society, strokes=1):
+    """All that can be asked of a society, trees of so many strokes at the most."""
+    told = plain_seen(society)
+    for word in "deeds weights stakes cover shut told".split():
+        told[word] = getattr(society, word)()
+    for word in ("who", "behind"):
+        told[word] = [told_or_refused(getattr(society, word), ticket) for ticket in asked_tickets(society)]
+    some = list(range(-1, strokes + 1)) + [4]
+    told["tree"] = [told_or_refused(society.tree, many) for many in some]
+    told["odds"] = [told_or_refused(society.odds, name, many) for name in society.names() + ["zoe"] for many in some]
+    told["page"] = page(society)
+    return copy.deepcopy(told)
+
+
+def stepped(society, step):
+    """All that can be asked of a twin at each step back, or each step on, until nothing is left."""
+    other = society.twin()
+    found = []
+    while told_or_refused(getattr(other, step)) != "NothingLeft":
+        found.append((plain_seen(other), other.deeds(), other.told()))
+    return copy.deepcopy(found)
+
+
+class Refusing(unittest.TestCase):
+    """What all tests of refusals ask for."""
+
+    def refused(self, name, function, *things):
+        """Looks for a refusal of its own class, and tells it."""
+        handed = copy.deepcopy(things)
+        with self.assertRaises(errors.OutError) as taken:
+            function(*handed)
+        self.assertEqual(type(taken.exception).__name__, name)
+        self.assertEqual(handed, things)
+        return taken.exception
+
+    def refused_in(self, society, name, function, *things):
+        """The same, where a society must be behind it as it was."""
+        before = all_asked(society), stepped(society, "back"), stepped(society, "again")
+        told = self.refused(name, function, *things)
+        self.assertEqual((all_asked(society), stepped(society, "back"), stepped(society, "again")), before)
+        return told
+
+
+def drawn_society(chance, steps):
+    """A society behind drawn deeds, and the same kept plainly."""
+    opening = drawn_opening(chance)
+    society, plain = Society(*opening), Plain(*opening)
+    for step in range(steps):
+        row = drawn_deed(chance, plain, DRAWN if 2 * step < steps else ("pay", "pay", "tie", "bet"))
+        if plain.refusal(row) is None and 10 ** 6 not in row:
+            plain.do(row, society.told())
+            society.deed(row)
+    return society, plain
+
+
+def all_in(house):
+    """All that can be asked of a house."""
+    told = [house.names()]
+    for name in house.names():
+        society = house.view(name)
+        told.append((name, all_asked(society), stepped(society, "back"), stepped(society, "again"), house.page(name)))
+    return told
+
+
+def shut_right(case, names, row, ties, living, stakes):
+    """Looks at the names that shut, row being the weights of the living."""
+    case.assertEqual(names is None, [sum(one) for one in stakes] == [2 * weight for weight in row])
+    if names is None:
+        case.assertIsNone(shut_of(row, ties))
+        return
+    places = [living.index(name) for name in names]
+    case.assertEqual(places, sorted(set(places)))
+    case.assertTrue(shuts(row, ties, places))
+    if ties is None:
+        case.assertEqual(places, [overweight(row)])

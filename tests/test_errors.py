@@ -37,6 +37,16 @@ class TestErrors(unittest.TestCase):
                     with self.subTest(f"{one.__name__} under {other.__name__}"):
                         self.assertFalse(issubclass(one, other))
 
+    def test_each_bears_the_name_of_its_class(self):
+        for one in refusals():
+            with self.subTest(one.__name__):
+                self.assertEqual((one(3) if one is errors.NoPage else one("why")).word, one.__name__)
+
+    def test_its_own_words_are_told(self):
+        for one in refusals():
+            if one is not errors.NoPage:
+                self.assertEqual((str(one("why")), str(one())), ("why", ""))
+
     def test_each_can_be_raised_and_taken_by_its_name(self):
         for one in refusals():
             with self.subTest(one.__name__):

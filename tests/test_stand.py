@@ -6,18 +6,16 @@ import random
 import unittest
 
 from outlivers import errors
-from outlivers.stakes import fault, show, shut_of
+from outlivers.stakes import fault, show
 from outlivers.stand import (
     all_tickets, bet_table, cover_of, done, drawn_by, first_stand, free_of, free_weights, living_names, member_of,
     purses, shut_names, stakes_of, tickets_with, tied_with, told_bets,
 )
 from outlivers.strokes import even, gains
-from outlivers.ties import shuts
-from outlivers.weights import overweight
 from outlivers.wheel import wheel
 from tests.helper import (
-    BET, FOUR, FULL, MANY, TABLE, Plain, drawn_deed, drawn_opening, drawn_stands, is_plain, refused_cases, soon, spoil,
-    stand_behind,
+    BET, FOUR, FULL, MANY, TABLE, Plain, drawn_deed, drawn_opening, drawn_stands, is_plain, refused_cases,
+    shut_right, soon, spoil, stand_behind,
 )
 
 
@@ -258,7 +256,7 @@ class TestStakes(Case):
         self.assertTrue(show(row, ties, stakes, cover_of(stand)))
         if not plain.tied:
             self.assertEqual(stakes, wheel(row))
-        self.shut_right(shut_names(stand), row, ties, living, stakes)
+        shut_right(self, shut_names(stand), row, ties, living, stakes)
         tickets = [plain.tickets(name) for name in living]
         told = []
         for i, one in enumerate(living):
@@ -270,18 +268,6 @@ class TestStakes(Case):
         bets = bet_table(stand)
         self.assertTrue(even(bets))
         self.assertEqual(gains(bets, tickets), [0] * len(living))
-
-    def shut_right(self, names, row, ties, living, stakes):
-        full = [sum(one) for one in stakes] == [2 * weight for weight in row]
-        self.assertEqual(names is None, full)
-        if names is None:
-            self.assertIsNone(shut_of(row, ties))
-            return
-        places = [living.index(name) for name in names]
-        self.assertEqual(places, sorted(set(places)))
-        self.assertTrue(shuts(row, ties, places))
-        if ties is None:
-            self.assertEqual(places, [overweight(row)])
 
     def test_nobody(self):
         for tied in (False, True):
